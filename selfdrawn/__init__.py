@@ -1,0 +1,1 @@
+"""Selfdrawn: pictures that are drawn again within themselves, without end."""
