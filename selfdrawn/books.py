@@ -2,6 +2,7 @@
 
 from selfdrawn.checks import is_kind_name, is_whole_in
 from selfdrawn.errors import BadBook, BadName, BadNumber
+from selfdrawn.grids import block_cells
 from selfdrawn.motions import cell_under, joint_motion
 
 SIDES = {"plane": 2, "line": 1}
@@ -117,13 +118,6 @@ class Book:
 
     def __eq__(self, other):
         return isinstance(other, Book) and self.text == other.text
-
-
-def block_cells(sides, base):
-    """The cells of a block in the order in which a book tells them."""
-    if sides == 1:
-        return [(column,) for column in range(base)]
-    return [(column, row) for row in range(base) for column in range(base)]
 
 
 def cell_within(cell, part, base):

@@ -4,6 +4,8 @@ from math import gcd
 
 RESERVED = ("plane", "line", "kind")
 MOST_LETTERS = 8
+# Points that are passed in have no low above this one.
+MOST_LOW = 60
 
 
 def is_whole(value):
@@ -46,6 +48,26 @@ def is_point(value, sides):
     if not isinstance(value, tuple) or len(value) != sides:
         return False
     return all([is_fraction_in(part, 0, 1) for part in value])
+
+
+def is_low_fraction(value):
+    """Whether value is a fraction from 0 to 1 with low at most 60."""
+    return is_fraction_in(value, 0, 1) and value[1] <= MOST_LOW
+
+
+def is_low_point(value, sides):
+    """Whether value is a point with as many fractions as there are sides, each with low at most 60."""
+    return is_point(value, sides) and all([is_low_fraction(part) for part in value])
+
+
+def is_low_point_of_any(value):
+    """Whether value is such a point of a plane or of a line."""
+    return is_low_point(value, 2) or is_low_point(value, 1)
+
+
+def is_base(value):
+    """Whether value is a base: 2, 3 or 4."""
+    return is_whole_in(value, 2, 4)
 
 
 def is_cell(value, sides, size):

@@ -3,11 +3,30 @@
 import unittest
 from copy import deepcopy
 
+from selfdrawn.beside import is_within, meeting_place, symmetries_of
 from selfdrawn.books import Book, drawn_cells
+from selfdrawn.cuts import cut_at, slanted_cut
+from selfdrawn.making import (
+    crossed_lines, joined_pictures, met_pictures, other_base, parts_of, put_together, turned_picture,
+)
 from selfdrawn.motions import back_motion, cell_under, joint_motion, point_under
+from selfdrawn.moves import moved_picture
+from selfdrawn.pictures import (
+    Picture, content_at, empty_picture, picture_from, picture_text, single_point, whole_picture,
+)
+from selfdrawn.points import (
+    bounding_box, first_point, fraction_of, has_point, last_point, place_of, point_cells,
+)
+from selfdrawn.scaling import lesser_picture, zoomed_picture
+from selfdrawn.shadows import shadow_of, slanted_shadow
 from tests.helpers import error_of
 
 TEXT = "plane 2\nkind a\na b/4\n. #\nkind b\n# .\n. a"
+SIEVE = Picture(Book("plane 2\nkind a\na .\na a"), "a")
+HOOK = Picture(Book("plane 2\nkind a\n. a/1\n# ."), "a")
+DUST = Picture(Book("line 3\nkind a\na . a"), "a")
+HALF = Picture(Book("line 3\nkind a\n# . ."), "a")
+POINT = ((1, 4), (2, 3))
 CALLS = (
     (joint_motion, ("sides", "one", "other"), (2, 1, 4)),
     (back_motion, ("sides", "one"), (2, 1)),
@@ -15,7 +34,40 @@ CALLS = (
     (cell_under, ("sides", "size", "motion", "cell"), (2, 4, 3, (0, 1))),
     (drawn_cells, ("book", "name", "depth"), (Book(TEXT), "a", 2)),
     (Book, ("text",), (TEXT,)),
+    (Picture, ("book", "name"), (Book(TEXT), "a")),
+    (picture_from, ("sides", "base", "form"), (2, 2, SIEVE.form)),
+    (empty_picture, ("sides", "base"), (2, 3)),
+    (whole_picture, ("sides", "base"), (1, 4)),
+    (single_point, ("base", "point"), (3, POINT)),
+    (picture_text, ("picture",), (SIEVE,)),
+    (content_at, ("picture", "depth", "cell"), (SIEVE, 3, (1, 6))),
+    (place_of, ("base", "fraction"), (2, (5, 12))),
+    (fraction_of, ("base", "place"), (2, ((0, 1), (1, 0)))),
+    (has_point, ("picture", "point"), (SIEVE, POINT)),
+    (point_cells, ("base", "depth", "point"), (2, 3, POINT)),
+    (first_point, ("picture",), (HOOK,)),
+    (last_point, ("picture",), (HOOK,)),
+    (bounding_box, ("picture",), (HOOK,)),
+    (is_within, ("one", "other"), (SIEVE, HOOK)),
+    (meeting_place, ("one", "other"), (SIEVE, HOOK)),
+    (symmetries_of, ("picture",), (SIEVE,)),
+    (turned_picture, ("picture", "motion"), (HOOK, 3)),
+    (joined_pictures, ("one", "other"), (SIEVE, HOOK)),
+    (met_pictures, ("one", "other"), (SIEVE, HOOK)),
+    (put_together, ("pictures",), ((DUST, HALF, DUST),)),
+    (parts_of, ("picture",), (HOOK,)),
+    (crossed_lines, ("one", "other"), (DUST, HALF)),
+    (other_base, ("picture",), (HOOK,)),
+    (lesser_picture, ("picture", "many", "cell"), (SIEVE, 3, (1, 2))),
+    (zoomed_picture, ("picture", "many", "cell"), (SIEVE, 3, (1, 2))),
+    (moved_picture, ("picture", "by"), (SIEVE, ((1, 3), (-1, 4)))),
+    (shadow_of, ("picture", "axis"), (HOOK, 1)),
+    (slanted_shadow, ("picture", "p", "q"), (HOOK, 1, 2)),
+    (cut_at, ("picture", "axis", "at"), (HOOK, 0, (1, 3))),
+    (slanted_cut, ("picture", "p", "q", "at"), (HOOK, -1, 2, (3, 4))),
 )
+# The parameters that are always books or pictures.
+HELD = ("book", "picture", "one", "other")
 
 
 class ArgumentsTest(unittest.TestCase):
@@ -38,6 +90,13 @@ class ArgumentsTest(unittest.TestCase):
             self.assertEqual(call(*values), first)
             self.assertEqual(call(*deepcopy(values)), first)
 
+    def test_arguments_that_are_exchanged_by_name(self):
+        for call in (is_within, crossed_lines, joined_pictures):
+            one, other = (DUST, HALF) if call is crossed_lines else (SIEVE, HOOK)
+            self.assertEqual(call(other=one, one=other), call(other, one))
+        self.assertNotEqual(is_within(other=SIEVE, one=HOOK), is_within(SIEVE, HOOK))
+        self.assertEqual(slanted_shadow(q=1, p=2, picture=HOOK), slanted_shadow(HOOK, 2, 1))
+
     def test_equal_books_draw_the_same(self):
         for name in ("a", "b"):
             for depth in range(6):
@@ -56,10 +115,33 @@ class UnchangedTest(unittest.TestCase):
         self.assertEqual((len(book), "a" in book, book == Book(TEXT)), (2, True, True))
         self.assertEqual(vars(book), held)
 
+    def test_pictures_are_not_changed(self):
+        pictures = (SIEVE, HOOK, DUST, HALF)
+        held = [deepcopy(vars(picture)) for picture in pictures]
+        for call, _, values in CALLS:
+            call(*values)
+        self.assertEqual([vars(picture) for picture in pictures], held)
+        for picture in pictures:
+            for call, names, values in CALLS:
+                if names[0] == "picture" and len(names) > 1:
+                    self.assertIsNotNone(error_of(call, picture, *([None] * (len(names) - 1))))
+        self.assertEqual([vars(picture) for picture in pictures], held)
+
     def test_refused_arguments_are_not_changed(self):
         for value in ([1, [2]], {"a": [1]}, ([1], [2]), [[0, 1], [1, 2]]):
             held = deepcopy(value)
-            for call, _, values in CALLS:
-                for place in range(1 if call is drawn_cells else 0, len(values)):
-                    self.assertIsNotNone(error_of(call, *values[:place], value, *values[place + 1:]))
+            for call, names, values in CALLS:
+                for place, name in enumerate(names):
+                    if name not in HELD or type(values[place]) is int:
+                        told = error_of(call, *values[:place], value, *values[place + 1:])
+                        self.assertIsNotNone(told, (call, place))
+                        self.assertIs(told.value, 0 if call is Book else value)
             self.assertEqual(value, held)
+
+    def test_results_are_new_ones(self):
+        whole = whole_picture(2, 2)
+        whole.form = ()
+        self.assertEqual(whole_picture(2, 2).form, ((0, 0, 0, 0),))
+        parts = parts_of(SIEVE)
+        parts[0].form = ()
+        self.assertEqual(parts_of(SIEVE)[0], SIEVE)

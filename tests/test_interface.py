@@ -7,6 +7,7 @@ import unittest
 from pathlib import Path
 
 from selfdrawn.books import Book
+from selfdrawn.pictures import Picture
 
 PACKAGE = Path(__file__).resolve().parent.parent / "selfdrawn"
 FUNCTIONS = {
@@ -15,6 +16,41 @@ FUNCTIONS = {
     ("motions", "point_under"): ["sides", "motion", "point"],
     ("motions", "cell_under"): ["sides", "size", "motion", "cell"],
     ("books", "drawn_cells"): ["book", "name", "depth"],
+    ("pictures", "picture_from"): ["sides", "base", "form"],
+    ("pictures", "empty_picture"): ["sides", "base"],
+    ("pictures", "whole_picture"): ["sides", "base"],
+    ("pictures", "single_point"): ["base", "point"],
+    ("pictures", "picture_text"): ["picture"],
+    ("pictures", "content_at"): ["picture", "depth", "cell"],
+    ("points", "place_of"): ["base", "fraction"],
+    ("points", "fraction_of"): ["base", "place"],
+    ("points", "has_point"): ["picture", "point"],
+    ("points", "point_cells"): ["base", "depth", "point"],
+    ("points", "first_point"): ["picture"],
+    ("points", "last_point"): ["picture"],
+    ("points", "bounding_box"): ["picture"],
+    ("beside", "is_within"): ["one", "other"],
+    ("beside", "meeting_place"): ["one", "other"],
+    ("beside", "symmetries_of"): ["picture"],
+    ("making", "turned_picture"): ["picture", "motion"],
+    ("making", "joined_pictures"): ["one", "other"],
+    ("making", "met_pictures"): ["one", "other"],
+    ("making", "put_together"): ["pictures"],
+    ("making", "parts_of"): ["picture"],
+    ("making", "crossed_lines"): ["one", "other"],
+    ("making", "other_base"): ["picture"],
+    ("scaling", "lesser_picture"): ["picture", "many", "cell"],
+    ("scaling", "zoomed_picture"): ["picture", "many", "cell"],
+    ("moves", "moved_picture"): ["picture", "by"],
+    ("shadows", "shadow_of"): ["picture", "axis"],
+    ("shadows", "slanted_shadow"): ["picture", "p", "q"],
+    ("cuts", "cut_at"): ["picture", "axis", "at"],
+    ("cuts", "slanted_cut"): ["picture", "p", "q", "at"],
+}
+# For each class its file, the parameters with which it is called, and the methods that stand in it.
+CLASSES = {
+    Book: ("books", ["text"], ["__init__", "__len__", "__contains__", "__eq__"]),
+    Picture: ("pictures", ["book", "name"], ["__init__", "__len__", "__eq__"]),
 }
 
 
@@ -30,9 +66,10 @@ class InterfaceTest(unittest.TestCase):
         for module, name in FUNCTIONS:
             self.assertIn(name, defined_in(module))
 
-    def test_book_stands_in_its_file(self):
-        self.assertIn("Book", defined_in("books"))
-        self.assertEqual(list(inspect.signature(Book).parameters), ["text"])
+    def test_classes_stand_in_their_files(self):
+        for kind, (module, parameters, _) in CLASSES.items():
+            self.assertIn(kind.__name__, defined_in(module))
+            self.assertEqual(list(inspect.signature(kind).parameters), parameters)
 
     def test_parameters_have_the_names_that_the_document_gives(self):
         for (module, name), parameters in FUNCTIONS.items():
@@ -40,5 +77,6 @@ class InterfaceTest(unittest.TestCase):
             self.assertEqual(list(inspect.signature(function).parameters), parameters)
 
     def test_methods_stand_in_their_own_class(self):
-        for method in ("__init__", "__len__", "__contains__", "__eq__"):
-            self.assertIn(method, vars(Book))
+        for kind, (_, _, methods) in CLASSES.items():
+            for method in methods:
+                self.assertIn(method, vars(kind))
