@@ -129,7 +129,7 @@ def halved_table(picture):
     def parts(state):
         number, within = state
         if within == ():
-            return [(number, cell) for cell in cells]
+            return [(number, corner) for corner in cells]
         told = []
         for cell in cells:
             place = [2 * half + step for half, step in zip(within, cell)]

@@ -2,21 +2,14 @@
 
 import random
 import unittest
-from fractions import Fraction
 from itertools import product
 
 from selfdrawn.books import Book, drawn_cells
 from selfdrawn.errors import BadName, BadNumber
-from tests.helpers import HUGE, TABLES, check_refused, moved_cell, moved_numbers
+from tests.helpers import HUGE, check_refused, moved_cell
+from tests.slow import joint
 
 DEEPEST = {2: 5, 3: 3, 4: 2}
-
-
-def joint(sides, one, other):
-    """The motion as one and then other, found in the document's table."""
-    numbers = (Fraction(1, 5), Fraction(1, 3))[:sides]
-    there = moved_numbers(sides, other, moved_numbers(sides, one, numbers))
-    return [motion for motion in range(len(TABLES[sides])) if moved_numbers(sides, motion, numbers) == there][0]
 
 
 def index_under(sides, base, motion, place):
