@@ -8,10 +8,10 @@ So a set has points exactly if some endless way leads on from its state: the cel
 EMPTY = -1
 
 
-def explored(start, parts):
-    """The table of start, as number 0, and of all states that come from it: parts tells those of the cells of one.
+def explored_with(start, parts):
+    """All states that come from start, in the sequence in which they come, and their table.
 
-    States are numbered in the sequence in which they come, as the contents in a form are.
+    Parts tells the states of the cells of one. Start is number 0; states are numbered as the contents in a form are.
     """
     numbers = {EMPTY: EMPTY, start: 0}
     states = [start]
@@ -25,7 +25,35 @@ def explored(start, parts):
                 states.append(part)
             row.append(numbers[part])
         table.append(tuple(row))
+    return states, table
+
+
+def explored(start, parts):
+    """The table of start, as number 0, and of all states that come from it: parts tells those of the cells of one."""
+    _, table = explored_with(start, parts)
     return table
+
+
+def leading_to(table, wanted):
+    """For each state whether some of those wanted comes from it; each of them comes from itself."""
+    above = [[] for _ in table]
+    for number, row in enumerate(table):
+        for part in row:
+            if part != EMPTY:
+                above[part].append(number)
+    there = [False] * len(table)
+    for number in wanted:
+        there[number] = True
+    found = list(wanted)
+    gone = 0
+    while gone < len(found):
+        ways = above[found[gone]]
+        for number in ways:
+            if not there[number]:
+                there[number] = True
+                found.append(number)
+        gone += 1
+    return there
 
 
 def living(table):

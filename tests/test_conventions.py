@@ -5,7 +5,10 @@ from copy import deepcopy
 
 from selfdrawn.beside import is_within, meeting_place, symmetries_of
 from selfdrawn.books import Book, drawn_cells
+from selfdrawn.counts import all_points, area_of, count_cells, how_many
 from selfdrawn.cuts import cut_at, slanted_cut
+from selfdrawn.inks import exchange_seen, ink_at, inks_in, same_inks, unseen_inks
+from selfdrawn.inside import edge_of, inside_cell, left_picture, outside_of, solid_part
 from selfdrawn.making import (
     crossed_lines, joined_pictures, met_pictures, other_base, parts_of, put_together, turned_picture,
 )
@@ -14,6 +17,7 @@ from selfdrawn.moves import moved_picture
 from selfdrawn.pictures import (
     Picture, content_at, empty_picture, picture_from, picture_text, single_point, whole_picture,
 )
+from selfdrawn.pieces import one_pieces, piece_count, touching_point
 from selfdrawn.points import (
     bounding_box, first_point, fraction_of, has_point, last_point, place_of, point_cells,
 )
@@ -26,6 +30,7 @@ SIEVE = Picture(Book("plane 2\nkind a\na .\na a"), "a")
 HOOK = Picture(Book("plane 2\nkind a\n. a/1\n# ."), "a")
 DUST = Picture(Book("line 3\nkind a\na . a"), "a")
 HALF = Picture(Book("line 3\nkind a\n# . ."), "a")
+FEW = joined_pictures(single_point(3, ((1, 3),)), single_point(3, ((1, 2),)))
 POINT = ((1, 4), (2, 3))
 CALLS = (
     (joint_motion, ("sides", "one", "other"), (2, 1, 4)),
@@ -65,6 +70,23 @@ CALLS = (
     (slanted_shadow, ("picture", "p", "q"), (HOOK, 1, 2)),
     (cut_at, ("picture", "axis", "at"), (HOOK, 0, (1, 3))),
     (slanted_cut, ("picture", "p", "q", "at"), (HOOK, -1, 2, (3, 4))),
+    (count_cells, ("picture", "depth", "low", "high"), (HOOK, 4, (1, 2), (13, 15))),
+    (area_of, ("picture",), (HOOK,)),
+    (how_many, ("picture",), (FEW,)),
+    (all_points, ("picture",), (FEW,)),
+    (touching_point, ("one", "other", "offset"), (SIEVE, HOOK, (1, 0))),
+    (one_pieces, ("book",), (Book(TEXT),)),
+    (piece_count, ("picture", "depth"), (HOOK, 3)),
+    (left_picture, ("one", "other"), (SIEVE, HOOK)),
+    (outside_of, ("picture",), (HOOK,)),
+    (edge_of, ("picture",), (HOOK,)),
+    (solid_part, ("picture",), (HOOK,)),
+    (inside_cell, ("picture",), (HOOK,)),
+    (ink_at, ("pictures", "point"), ((SIEVE, HOOK), POINT)),
+    (unseen_inks, ("pictures",), ((SIEVE, HOOK, SIEVE),)),
+    (inks_in, ("pictures", "depth", "cell"), ((SIEVE, HOOK), 2, (1, 2))),
+    (same_inks, ("one", "other"), ((SIEVE, HOOK), (HOOK, SIEVE))),
+    (exchange_seen, ("pictures", "number"), ((SIEVE, HOOK), 0)),
 )
 # The parameters that are always books or pictures.
 HELD = ("book", "picture", "one", "other")

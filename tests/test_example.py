@@ -135,8 +135,82 @@ def section_10():
     """
 
 
+def section_11():
+    r"""
+    >>> from selfdrawn.books import Book
+    >>> from selfdrawn.counts import all_points, area_of, count_cells, how_many
+    >>> from selfdrawn.pictures import Picture
+    >>> sieve = Picture(Book('plane 2\nkind a\na .\na a'), 'a')
+    >>> [count_cells(sieve, 1, (0, 0), (2, 2)), count_cells(sieve, 2, (0, 0), (4, 4)), count_cells(sieve, 2, (1, 0), (4, 3))]
+    [4, 13, 6]
+    >>> book = Book('plane 2\nkind a\n# a\n. b\nkind b\nb .\n. .\nkind c\nb c\n. .')
+    >>> [area_of(Picture(book, name)) for name in book.names] + [area_of(sieve)]
+    [(1, 3), (0, 1), (0, 1), (0, 1)]
+    >>> [how_many(Picture(book, name)) for name in book.names] + [how_many(sieve)]
+    [('more',), ('some', 1), ('countable',), ('more',)]
+    >>> corner = Picture(Book('plane 2\nkind a\n. b\nb .\nkind b\nb .\n. .'), 'a')
+    >>> [how_many(corner), all_points(corner)]
+    [('some', 2), ((((), (0,)), ((1,), (0,))), (((1,), (0,)), ((), (0,))))]
+    """
+
+
+def section_12():
+    r"""
+    >>> from selfdrawn.books import Book
+    >>> from selfdrawn.pictures import Picture
+    >>> from selfdrawn.pieces import one_pieces, piece_count, touching_point
+    >>> book = Book('plane 2\nkind d\nd .\n. d\nkind e\ne .\n. e/1\nkind g\nc .\n. f\nkind c\nc .\n. .\nkind f\n. .\n. f')
+    >>> d, g = Picture(book, 'd'), Picture(book, 'g')
+    >>> one_pieces(book)
+    ('parted', 'e', (((0, 0),), ((1, 1),)))
+    >>> [touching_point(d, d, (0, 0)), touching_point(d, d, (1, 0)), touching_point(d, d, (1, 1))]
+    [(((), (0,)), ((), (0,))), None, (((), (1,)), ((), (1,)))]
+    >>> [piece_count(d, 2), piece_count(g, 0), piece_count(g, 1)]
+    [1, 1, 2]
+    """
+
+
+def section_13():
+    r"""
+    >>> from selfdrawn.books import Book
+    >>> from selfdrawn.counts import area_of
+    >>> from selfdrawn.inside import edge_of, inside_cell, left_picture, outside_of, solid_part
+    >>> from selfdrawn.pictures import Picture
+    >>> from selfdrawn.points import has_point
+    >>> book = Book('plane 2\nkind two\n# .\n. #\nkind three\n# #\n. #\nkind others\n. #\n# .\nkind right\n. #\n. .\nkind dust\ndust #\n. dust')
+    >>> two, three, others, right, dust = [Picture(book, name) for name in book.names]
+    >>> [outside_of(two) == others, left_picture(three, two) == right, solid_part(two) == two]
+    [True, True, True]
+    >>> cross = edge_of(two)
+    >>> [has_point(cross, ((1, 2), (1, 3))), has_point(cross, ((1, 3), (1, 3))), area_of(cross), inside_cell(cross)]
+    [True, False, (0, 1), ('thin',)]
+    >>> [inside_cell(two), inside_cell(dust), solid_part(dust) == dust, area_of(outside_of(dust))]
+    [('inside', 1, (0, 0)), ('inside', 1, (1, 0)), True, (1, 2)]
+    """
+
+
+def section_14():
+    r"""
+    >>> from selfdrawn.books import Book
+    >>> from selfdrawn.inks import exchange_seen, ink_at, inks_in, same_inks, unseen_inks
+    >>> from selfdrawn.pictures import Picture
+    >>> book = Book('plane 2\nkind left\n# .\n# .\nkind top\n# #\n. .\nkind corner\n# .\n. .\nkind right\n. #\n. .')
+    >>> left, top, corner, right = [Picture(book, name) for name in book.names]
+    >>> [ink_at((left, top), point) for point in (((1, 4), (1, 4)), ((3, 4), (1, 4)), ((3, 4), (3, 4)))]
+    [0, 1, None]
+    >>> [unseen_inks((left, top, corner)), unseen_inks((corner, left, top))]
+    [(2,), ()]
+    >>> [inks_in((left, top), 1, cell) for cell in ((0, 0), (1, 0), (1, 1))]
+    [(0,), (0, 1), (0, 1)]
+    >>> [same_inks((left, top), (left, right)), same_inks((left, top), (top, left))]
+    [('same',), ('parts', 0, 2, (0, 3))]
+    >>> [exchange_seen((left, top), 0), exchange_seen((corner, left, top), 1)]
+    [('seen', 0, (0, 0)), ('same',)]
+    """
+
+
 # How many examples each section has.
-COUNTS = {4: 9, 5: 9, 6: 9, 7: 8, 8: 13, 9: 8, 10: 10}
+COUNTS = {4: 9, 5: 9, 6: 9, 7: 8, 8: 13, 9: 8, 10: 10, 11: 10, 12: 8, 13: 11, 14: 10}
 
 
 class ExampleTest(unittest.TestCase):

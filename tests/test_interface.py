@@ -46,6 +46,23 @@ FUNCTIONS = {
     ("shadows", "slanted_shadow"): ["picture", "p", "q"],
     ("cuts", "cut_at"): ["picture", "axis", "at"],
     ("cuts", "slanted_cut"): ["picture", "p", "q", "at"],
+    ("counts", "count_cells"): ["picture", "depth", "low", "high"],
+    ("counts", "area_of"): ["picture"],
+    ("counts", "how_many"): ["picture"],
+    ("counts", "all_points"): ["picture"],
+    ("pieces", "touching_point"): ["one", "other", "offset"],
+    ("pieces", "one_pieces"): ["book"],
+    ("pieces", "piece_count"): ["picture", "depth"],
+    ("inside", "left_picture"): ["one", "other"],
+    ("inside", "outside_of"): ["picture"],
+    ("inside", "edge_of"): ["picture"],
+    ("inside", "solid_part"): ["picture"],
+    ("inside", "inside_cell"): ["picture"],
+    ("inks", "ink_at"): ["pictures", "point"],
+    ("inks", "unseen_inks"): ["pictures"],
+    ("inks", "inks_in"): ["pictures", "depth", "cell"],
+    ("inks", "same_inks"): ["one", "other"],
+    ("inks", "exchange_seen"): ["pictures", "number"],
 }
 # For each class its file, the parameters with which it is called, and the methods that stand in it.
 CLASSES = {
