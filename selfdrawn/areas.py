@@ -5,7 +5,7 @@ from math import gcd
 from selfdrawn.tables import EMPTY, leading_to
 
 # Beside numbers, the key of what is told without them.
-ALONE = EMPTY
+ALONE = -1
 
 
 def equation_of(row, full, unknown):

@@ -16,8 +16,7 @@ def left_table(one, other):
     rows, others = rows_of(one), rows_of(other)
 
     def parts(pair):
-        told = zip(rows[pair[0]], others[pair[1]])
-        return [EMPTY if part == EMPTY else (part, beside) for part, beside in told]
+        return [EMPTY if end[0] == EMPTY else end for end in zip(rows[pair[0]], others[pair[1]])]
 
     states, table = explored_with((0, start_of(other)), parts)
     left = leading_to(table, [number for number, (_, beside) in enumerate(states) if beside == EMPTY])

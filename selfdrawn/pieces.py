@@ -108,9 +108,9 @@ class Blocks:
         """The lots of touching cells in the block of a kind."""
         cells = block_cells(self.book.sides, self.book.base)
         held = {}
-        for cell, what in zip(cells, self.book.blocks[kind]):
+        for place, what in zip(cells, self.book.blocks[kind]):
             if self.shown(what) is not None:
-                held[cell] = what
+                held[place] = what
 
         def linked(cell):
             told = []

@@ -7,8 +7,11 @@ from selfdrawn.beside import is_within, meeting_place, symmetries_of
 from selfdrawn.books import Book, drawn_cells
 from selfdrawn.counts import all_points, area_of, count_cells, how_many
 from selfdrawn.cuts import cut_at, slanted_cut
+from selfdrawn.desk import Desk
+from selfdrawn.forall import needless_inputs, needs_at, same_program, shows_parts
 from selfdrawn.inks import exchange_seen, ink_at, inks_in, same_inks, unseen_inks
 from selfdrawn.inside import edge_of, inside_cell, left_picture, outside_of, solid_part
+from selfdrawn.journals import journal, read_journal
 from selfdrawn.making import (
     crossed_lines, joined_pictures, met_pictures, other_base, parts_of, put_together, turned_picture,
 )
@@ -21,6 +24,7 @@ from selfdrawn.pieces import one_pieces, piece_count, touching_point
 from selfdrawn.points import (
     bounding_box, first_point, fraction_of, has_point, last_point, place_of, point_cells,
 )
+from selfdrawn.programs import Program, point_made, worked_out
 from selfdrawn.scaling import lesser_picture, zoomed_picture
 from selfdrawn.shadows import shadow_of, slanted_shadow
 from tests.helpers import error_of
@@ -32,6 +36,8 @@ DUST = Picture(Book("line 3\nkind a\na . a"), "a")
 HALF = Picture(Book("line 3\nkind a\n# . ."), "a")
 FEW = joined_pictures(single_point(3, ((1, 3),)), single_point(3, ((1, 2),)))
 POINT = ((1, 4), (2, 3))
+LINES = "r = turned a 1\ns = joined r b"
+DESK = read_journal("desk 2\ndraw p p . . .\nlet q turned p 2\nplace 1\nmark a\ndraw x # . . #")
 CALLS = (
     (joint_motion, ("sides", "one", "other"), (2, 1, 4)),
     (back_motion, ("sides", "one"), (2, 1)),
@@ -87,9 +93,21 @@ CALLS = (
     (inks_in, ("pictures", "depth", "cell"), ((SIEVE, HOOK), 2, (1, 2))),
     (same_inks, ("one", "other"), ((SIEVE, HOOK), (HOOK, SIEVE))),
     (exchange_seen, ("pictures", "number"), ((SIEVE, HOOK), 0)),
+    (Program, ("text",), (LINES,)),
+    (worked_out, ("program", "pictures"), (Program(LINES), (SIEVE, HOOK))),
+    (point_made, ("program", "lots", "point"), (Program(LINES), ((POINT,), ()), POINT)),
+    (needs_at, ("program", "point"), (Program(LINES), POINT)),
+    (same_program, ("one", "other"), (Program(LINES), Program("r = met a b"))),
+    (shows_parts, ("one", "other", "value"), (Program(LINES), Program("r = met a b"), ("parts", ((POINT,), ()), POINT))),
+    (needless_inputs, ("program",), (Program(LINES),)),
+    (Desk, ("base",), (3,)),
+    (journal, ("desk",), (DESK,)),
+    (read_journal, ("text",), (journal(DESK),)),
 )
-# The parameters that are always books or pictures.
-HELD = ("book", "picture", "one", "other")
+# The parameters that are always books, pictures, programs or desks, and one that may be any value.
+HELD = ("book", "picture", "one", "other", "program", "desk", "value")
+# What these refuse is told by the number of a line.
+TEXTS = (Book, Program, read_journal)
 
 
 class ArgumentsTest(unittest.TestCase):
@@ -149,6 +167,27 @@ class UnchangedTest(unittest.TestCase):
                     self.assertIsNotNone(error_of(call, picture, *([None] * (len(names) - 1))))
         self.assertEqual([vars(picture) for picture in pictures], held)
 
+    def test_programs_and_desks_that_are_asked_are_not_changed(self):
+        program, desk = Program(LINES), DESK.copy()
+        held, text = deepcopy(vars(program)), journal(desk)
+        for call, names, values in CALLS:
+            if names[0] == "program":
+                call(program, *values[1:])
+                if len(names) > 1:
+                    self.assertIsNotNone(error_of(call, program, *([None] * (len(names) - 1))))
+        for call in (desk.entry, desk.picture, desk.hanging, desk.program):
+            self.assertIsNotNone(error_of(call, "no"))
+        self.assertEqual([desk.entry("p"), desk.hanging("p"), desk.picture("p") == desk.picture("p")], [("p", ".", ".", "."), ("p",), True])
+        self.assertEqual((vars(program), journal(desk), desk == DESK), (held, text, True))
+
+    def test_methods_return_none_if_nothing_else_is_said(self):
+        desk = Desk(2)
+        told = [
+            desk.draw("p", ("p", ".", ".", ".")), desk.let("q", "turned p 1"), desk.change("p", (0, 0), "."), desk.remove("q"),
+            desk.deed("remove p"), desk.mark("a"), desk.back(2), desk.on(1), desk.to("a"),
+        ]
+        self.assertEqual(told, [None] * 9)
+
     def test_refused_arguments_are_not_changed(self):
         for value in ([1, [2]], {"a": [1]}, ([1], [2]), [[0, 1], [1, 2]]):
             held = deepcopy(value)
@@ -157,7 +196,7 @@ class UnchangedTest(unittest.TestCase):
                     if name not in HELD or type(values[place]) is int:
                         told = error_of(call, *values[:place], value, *values[place + 1:])
                         self.assertIsNotNone(told, (call, place))
-                        self.assertIs(told.value, 0 if call is Book else value)
+                        self.assertIs(told.value, 0 if call in TEXTS else value)
             self.assertEqual(value, held)
 
     def test_results_are_new_ones(self):

@@ -209,8 +209,50 @@ def section_14():
     """
 
 
+def section_15():
+    r"""
+    >>> from selfdrawn.forall import needless_inputs, needs_at, same_program, shows_parts
+    >>> from selfdrawn.programs import point_made, Program
+    >>> back = Program('c = moved a 1/2 0\nd = moved c -1/2 0')
+    >>> [back.inputs, back.steps[1], len(back)]
+    [('a',), ('d', 'moved', 'c', (-1, 2), (0, 1)), 2]
+    >>> [needs_at(back, ((1, 4), (1, 3))), needs_at(back, ((3, 4), (1, 3)))]
+    [((('a', ((1, 4), (1, 3))),),), ()]
+    >>> still = Program('b = turned a 0')
+    >>> value = ('parts', ((((3, 4), (0, 1)),),), ((3, 4), (0, 1)))
+    >>> [shows_parts(back, still, value), point_made(still, value[1], value[2]), same_program(back, still)[0]]
+    [True, True, 'parts']
+    >>> same_program(Program('c = lesser a 2 1 0\nd = zoomed c 2 1 0'), still)
+    ('same',)
+    >>> turns = [Program('c = joined a b\nd = turned c 2'), Program('c = turned b 2\ne = turned a 2\nd = joined c e')]
+    >>> [same_program(turns[0], turns[1]), needs_at(turns[0], ((0, 1), (1, 3)))]
+    [('same',), ((('a', ((1, 1), (2, 3))),), (('b', ((1, 1), (2, 3))),))]
+    >>> needless_inputs(Program('c = met a b\nd = joined a c'))
+    ('b',)
+    """
+
+
+def section_16():
+    r"""
+    >>> from selfdrawn.desk import Desk
+    >>> from selfdrawn.errors import InUse, Ring
+    >>> from selfdrawn.journals import journal, read_journal
+    >>> desk = Desk(2)
+    >>> [desk.draw('p', ('p', '.', '.', '.')), desk.let('q', 'turned p 2'), desk.let('r', 'joined p q')]
+    [None, None, None]
+    >>> [desk.picture(name).form for name in ('p', 'q', 'r')]
+    [((0, -1, -1, -1),), ((-1, -1, -1, 0),), ((1, -1, -1, 2), (1, -1, -1, -1), (-1, -1, -1, 2))]
+    >>> [desk.hanging('p'), desk.program('r'), desk.kinds, desk.lines]
+    [('p', 'q', 'r'), 'q = turned p 2\nr = joined p q', ('p',), ('q', 'r')]
+    >>> [desk.mark('early'), desk.change('p', (1, 0), 'p/1'), desk.picture('q') == desk.picture('p'), desk.back(2), desk.lines, desk.to('early'), desk.place]
+    [None, None, False, None, ('q',), None, 3]
+    >>> [journal(desk), read_journal(journal(desk)) == desk]
+    ['desk 2\ndraw p p . . .\nlet q turned p 2\nlet r joined p q\nplace 3\nmark early\ndraw p p . . .\nlet q turned p 2\nlet r joined p q', True]
+    """
+
+
 # How many examples each section has.
-COUNTS = {4: 9, 5: 9, 6: 9, 7: 8, 8: 13, 9: 8, 10: 10, 11: 10, 12: 8, 13: 11, 14: 10}
+COUNTS = {4: 9, 5: 9, 6: 9, 7: 8, 8: 13, 9: 8, 10: 10, 11: 10, 12: 8, 13: 11, 14: 10, 15: 12, 16: 9}
 
 
 class ExampleTest(unittest.TestCase):
