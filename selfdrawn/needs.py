@@ -81,11 +81,11 @@ def seams_of(programs):
     pairs = [pair for program in programs for pair in pairs_that_are_cut(program)]
     for pair in pairs:
         for axis, many, more, low in pair:
-            # The number is 0 at one of these and 1 at the other one; many can be less than 0.
-            ends = [(-more, many), (low - more, many)]
-            cuts[axis].extend([(top, below) if below > 0 else (-top, -below) for top, below in ends])
+            # The number is 0 at one of these and 1 at the other one.
+            cuts[axis].extend([(-more, many), (low - more, many)])
     told = []
     for fractions in cuts:
+        # Lows can be below 0; what they have in common is not.
         common = 1
         for _, low in fractions:
             common = lcm(common, low)

@@ -365,6 +365,7 @@ class TextsTest(unittest.TestCase):
             ("let P turned p 1", BadName, "P"), ("let p turned p 1", Held, "p"), ("let t turned", BadLine, "turned"),
             ("let t turned p 8", BadLine, "turned p 8"), ("let t a b c d e f", BadLine, "a b c d e f"), ("let t joined p no", NoName, "no"),
             ("let r turned s 1", Ring, ("r", "s")), ("let t turned t 1", Ring, ("t",)), ("remove no", NoName, "no"), ("remove ?", NoName, "?"),
+            ("let ~ !", BadName, "~"), ("remove !~", NoName, "!~"),
             ("remove p", InUse, ("q", "r")),
         ):
             check_raises(self, desk, error, value, desk.deed, text)

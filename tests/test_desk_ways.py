@@ -4,7 +4,7 @@ import random
 import unittest
 
 from selfdrawn.desk import Desk
-from selfdrawn.errors import BadName, BadNumber, DrawError, Held, NoKind, NoMark, TooFar
+from selfdrawn.errors import BadName, BadNumber, BadWords, DrawError, Held, NoKind, NoMark, TooFar
 from selfdrawn.journals import journal
 from tests.desks import check_desk, check_raises, held, some_deeds
 from tests.test_deeds import POINT, some_desk
@@ -219,6 +219,53 @@ class TriedTest(unittest.TestCase):
         desk = self.some_desk()
         with self.assertRaises(TypeError):
             desk.tried(lambda shown: None, True)
+
+
+class ArgumentsTest(unittest.TestCase):
+
+    CALLS = (
+        ("draw", {"name": "t", "words": ("t/3", "p", "#", ".")}), ("change", {"name": "p", "cell": (1, 0), "word": "q/2"}),
+        ("let", {"name": "t", "line": "met s p"}), ("remove", {"name": "s"}), ("deed", {"text": "let s turned q 3"}),
+        ("entry", {"name": "q"}), ("entry", {"name": "s"}), ("picture", {"name": "s"}), ("hanging", {"name": "p"}), ("program", {"name": "s"}),
+        ("back", {"many": 3}), ("on", {"many": 1}), ("mark", {"name": "new"}), ("to", {"name": "old"}), ("copy", {}),
+    )
+
+    def some_desk(self):
+        desk = some_desk()
+        desk.mark("old")
+        desk.change("p", (0, 0), "q")
+        desk.back(1)
+        return desk
+
+    def test_by_position_and_by_name_twice_with_the_same_result(self):
+        for method, named in self.CALLS:
+            desks = [self.some_desk() for _ in range(3)]
+            told = [
+                getattr(desks[0], method)(*named.values()), getattr(desks[1], method)(**named),
+                getattr(desks[2], method)(**dict(reversed(list(named.items())))),
+            ]
+            self.assertEqual(told[0], told[1], method)
+            self.assertEqual(told[0], told[2])
+            self.assertEqual(desks[0], desks[1])
+            self.assertEqual([held(desk) for desk in desks[1:]], [held(desks[0])] * 2)
+
+    def test_asks_change_nothing(self):
+        for method, named in self.CALLS:
+            if method in ("entry", "picture", "hanging", "program", "copy"):
+                desk = self.some_desk()
+                before = held(desk)
+                told = getattr(desk, method)(**named)
+                self.assertEqual(getattr(desk, method)(**named), told)
+                self.assertEqual(held(desk), before)
+
+    def test_what_is_passed_in_stays(self):
+        words = ["p", "p", "p", "p"]
+        desk = self.some_desk()
+        desk.draw("new", tuple(words))
+        words[0] = "#"
+        self.assertEqual(desk.entry("new"), ("p",) * 4)
+        check_raises(self, desk, BadWords, words, desk.draw, "new", words)
+        self.assertEqual(words, ["#", "p", "p", "p"])
 
 
 class CopyTest(unittest.TestCase):

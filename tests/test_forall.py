@@ -61,6 +61,18 @@ PARTED = (
     ("r = moved a 1 0", "r = moved a 1 0\ns = turned r 6"),
     # At one point alone: squares that meet in a corner.
     ("r = lesser a 2 0 0\ns = lesser b 2 1 1\nt = met r s", "r = lesser a 2 0 0\ns = lesser b 4 3 3\nt = met r s"),
+    # In one half of the square alone: in the other one, quarter by quarter, they are the same.
+    ("r = zoomed a 2 0 0\nr = lesser r 2 0 0\ns = zoomed a 2 0 1\ns = lesser s 2 0 1\nt = joined r s", "r = turned a 0"),
+    ("r = zoomed a 2 1 0\nr = lesser r 2 1 0\ns = zoomed a 2 1 1\ns = lesser s 2 1 1\nt = joined r s", "r = turned a 0"),
+    ("r = zoomed a 2 0 0\nr = lesser r 2 0 0\ns = zoomed a 2 1 0\ns = lesser s 2 1 0\nt = joined r s", "r = turned a 0"),
+    ("r = zoomed a 2 0 1\nr = lesser r 2 0 1\ns = zoomed a 2 1 1\ns = lesser s 2 1 1\nt = joined r s", "r = turned a 0"),
+    # In a strip alone, without its sides; in the last two of these not in its middle either.
+    ("r = moved a 3/4 0\nr = moved r -3/4 0\ns = moved a -3/4 0\ns = moved s 3/4 0\nt = joined r s", "r = turned a 0"),
+    ("r = moved a 0 3/4\nr = moved r 0 -3/4\ns = moved a 0 -3/4\ns = moved s 0 3/4\nt = joined r s", "r = turned a 0"),
+    ("r = moved a 3/4 0\nr = moved r -3/4 0\ns = moved a -3/4 0\ns = moved s 3/4 0\nt = joined r s\nu = turned a 4\nu = met u a\nv = joined t u",
+     "r = turned a 0"),
+    ("r = moved a 0 1/2\nr = moved r 0 -1/2\ns = moved a 0 -1/4\ns = moved s 0 1/4\nt = met r s\nu = turned a 6\nu = met u t", "r = moved a 0 1/2\n"
+     "r = moved r 0 -1/2\ns = moved a 0 -1/4\ns = moved s 0 1/4\nt = met r s"),
     ("r = lesser a 3 1 1\ns = lesser b 3 2 2\nt = met r s\nu = joined t a", "r = met a b\ns = joined r a"),
 )
 
