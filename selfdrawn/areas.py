@@ -11,11 +11,11 @@ ALONE = -1
 def equation_of(row, full, unknown):
     """The equation of a number: how often its area is counted, and the areas that make this, by their numbers.
 
-    Full is the number of the full square, whose area is 1; those that are not unknown have none.
+    Full is the number of the full square, whose area is 1; numbers that are not unknown have no area.
     """
     parts = {ALONE: row.count(full)}
     for part in row:
-        if part != EMPTY and part != full and unknown[part]:
+        if part not in (EMPTY, full) and unknown[part]:
             parts[part] = parts.get(part, 0) + 1
     return len(row), parts
 
@@ -49,14 +49,16 @@ def area_of_form(form):
         return 0, 1
     if full == [0]:
         return 1, 1
-    equations = []
+    equations = {}
     for number, row in enumerate(form):
-        times, parts = equation_of(row, full[0], unknown)
-        equations.append(without_own(number, times, parts) if unknown[number] and number != full[0] else (1, {}))
+        if unknown[number] and number != full[0]:
+            times, parts = equation_of(row, full[0], unknown)
+            equations[number] = without_own(number, times, parts)
+    # From the last number on, each is told by lesser ones and put in its place, until the first one stands alone.
     for other in range(len(form) - 1, 0, -1):
         for number in range(other):
-            if other in equations[number][1]:
+            if number in equations and other in equations[number][1]:
                 equations[number] = led_back(number, equations[number], other, equations[other])
+    # What is left is in lowest terms.
     times, parts = equations[0]
-    common = gcd(times, parts[ALONE])
-    return parts[ALONE] // common, times // common
+    return parts[ALONE], times

@@ -79,6 +79,13 @@ class FewPointsTest(unittest.TestCase):
         told = all_points(picture_of(2, 2, points))
         self.assertEqual(told, places_of(2, points))
 
+    def test_rings_that_are_alike_for_long(self):
+        # 2/7 and 1/3 are .010010.. and .010101.., 5/7 and 2/3 are .101101.. and .101010..
+        for one, other in ((Fraction(2, 7), Fraction(1, 3)), (Fraction(5, 7), Fraction(2, 3)), (Fraction(1, 7), Fraction(2, 15))):
+            self.assertEqual(all_points(picture_of(1, 2, [(one,), (other,)])), places_of(2, [(one,), (other,)]))
+            points = [(Fraction(1, 3), one), (Fraction(1, 3), other), (one, one), (other, one)]
+            self.assertEqual(all_points(picture_of(2, 2, points)), places_of(2, set(points)))
+
     def test_turned_pictures_have_as_many(self):
         draw = random.Random(212)
         for sides, base in KINDS:
