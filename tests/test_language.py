@@ -6,6 +6,8 @@ import unittest
 from pathlib import Path
 
 PACKAGE = Path(__file__).resolve().parent.parent / "selfdrawn"
+# A name that begins with an underscore can be there for a while: doctest sets one.
+BUILTINS = {name for name in dir(builtins) if not name.startswith("_")}
 OUTSIDE = {"math": {"gcd", "lcm", "isqrt", "comb", "perm", "factorial"}}
 
 
@@ -58,7 +60,7 @@ class LanguageTest(unittest.TestCase):
                     bound = part.arg
                 elif isinstance(part, ast.FunctionDef) and part not in [one for kind in tree.body if isinstance(kind, ast.ClassDef) for one in kind.body]:
                     bound = part.name
-                self.assertNotIn(bound, set(dir(builtins)) | imported | classes, path)
+                self.assertNotIn(bound, BUILTINS | imported | classes, path)
 
     def test_imports_are_used_and_lead_to_where_names_are_defined(self):
         trees = {path.stem: ast.parse(path.read_text()) for path in files()}

@@ -85,6 +85,9 @@ class FewPointsTest(unittest.TestCase):
             self.assertEqual(all_points(picture_of(1, 2, [(one,), (other,)])), places_of(2, [(one,), (other,)]))
             points = [(Fraction(1, 3), one), (Fraction(1, 3), other), (one, one), (other, one)]
             self.assertEqual(all_points(picture_of(2, 2, points)), places_of(2, set(points)))
+        # 2/31 and 1/15 are .0001000010.. and .0001000100..; here they are told apart by y at once.
+        points = [(Fraction(1, 15), Fraction(0)), (Fraction(2, 31), Fraction(1))]
+        self.assertEqual(all_points(picture_of(2, 2, points)), places_of(2, points))
 
     def test_turned_pictures_have_as_many(self):
         draw = random.Random(212)
