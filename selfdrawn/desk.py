@@ -54,8 +54,9 @@ class Desk:
     def __eq__(self, other):
         if not isinstance(other, Desk):
             return False
-        held = (self.base, self.deeds, self.place, self._marked)
-        return held == (other.base, other.deeds, other.place, other._marked)
+        if self.base != other.base or self.deeds != other.deeds:
+            return False
+        return self.place == other.place and self._marked == other._marked
 
     def draw(self, name, words):
         """Let a kind have this block."""
